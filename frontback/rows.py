@@ -1,12 +1,13 @@
 """Rows of words, programs, and what programs make of rows."""
 
-from frontback.errors import InvalidProgram, InvalidRow, InvalidWord
+from frontback.errors import InvalidNames, InvalidNumber, InvalidProgram, InvalidRow, InvalidWord
 
 LETTERS = "abcdefghijklmnopqrstuvwxyz"
 MOST_LETTERS = 8
 MOST_ROW_WORDS = 20
 MOST_OPERATIONS = 60
 MOST_PROGRAM_WORDS = 12
+MOST_NAMES = 8
 
 # Each verb brings its word to one place, and only in one case. Running, fates and
 # meanings all follow from this table, so that they cannot contradict each other.
@@ -53,6 +54,16 @@ def is_program(value):
     return len(set([word for verb, word in value])) <= MOST_PROGRAM_WORDS
 
 
+def is_names(value):
+    """Return whether value is a tuple of 1 to 8 different words."""
+    return is_row(value) and 1 <= len(value) <= MOST_NAMES
+
+
+def is_integer(value):
+    """Return whether value is an integer; True and False are none."""
+    return isinstance(value, int) and not isinstance(value, bool)
+
+
 def check_word(word):
     """Raise InvalidWord unless word is a word."""
     if not is_word(word):
@@ -69,6 +80,18 @@ def check_program(program):
     """Raise InvalidProgram unless program is a program."""
     if not is_program(program):
         raise InvalidProgram("a program is a list of at most 60 operations with at most 12 words")
+
+
+def check_names(names):
+    """Raise InvalidNames unless names are names."""
+    if not is_names(names):
+        raise InvalidNames("names are a tuple of 1 to 8 different words")
+
+
+def check_number(number, least, most):
+    """Raise InvalidNumber unless number is an integer within these bounds."""
+    if not is_integer(number) or not least <= number <= most:
+        raise InvalidNumber("the number is no integer, or too small or too large")
 
 
 def holds(case, present):

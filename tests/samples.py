@@ -59,6 +59,38 @@ WRONG_PROGRAMS = (
     + [[("lift", LETTERS[k % 13]) for k in range(60)], [GOOD_OPERATION] * 47 + [("sink", word) for word in THIRTEEN]]
 )
 
+WRONG_NAMES = WRONG_ROWS + [(), LETTER_WORDS[:9], LETTER_WORDS[:12], LETTER_WORDS[:20], ["x", "y"], [("x", "y")]]
+
+# The names beside which the fences and the results are wrong.
+NAMES = ("x", "y")
+
+WRONG_FENCES = WRONG_ROWS + [
+    (), ("left",), ("a", "b", "c"), LETTER_WORDS[:20], ("left", "left"), ["left", "right"], "leftright", [("a", "b")],
+    ("x", "right"), ("left", "x"), ("y", "right"), ("left", "y"), ("x", "y"), ("y", "x"), ("x", "x"),
+    {"left": "right"}, ("Left", "right"), ("left", "Right"), ("left", "right", "left"), (("left", "right"),),
+]
+
+# A list of rows may be empty, and each of its rows, too.
+WRONG_LISTS_OF_ROWS = (
+    [value for value in WRONG_EVERYWHERE if value not in ([()], [("a",)])]
+    + [(), (("a", "b"),), ((), ("a",)), {("a",): ("b",)}, ("a", "b"), "ab", ["ab"], [[("a",)]], [["a"], ["b"]]]
+    + [[row] for row in WRONG_ROWS]
+    + [[("a", "x"), row] for row in WRONG_ROWS]
+    + [[row, ("a", "x"), ()] for row in WRONG_ROWS]
+)
+
+WRONG_RESULTS = (
+    WRONG_EVERYWHERE
+    + [[], (), [()] * 3, [()] * 5, [()] * 200, ((),) * 4, [("left", "right")] * 2, [("left", "right")] * 6]
+    + [(("left", "right"),) * 4, "abcd", ["a", "b", "c", "d"], {("a",): 1, ("b",): 2, ("c",): 3, ("d",): 4}]
+    + [[("left", "right")] * at + [row] + [()] * (3 - at) for at in range(4) for row in WRONG_ROWS[at::4]]
+    + [[()] * at + [LETTER_WORDS[:size]] + [()] * (3 - at) for at in range(4) for size in (11, 12, 20, 21)]
+)
+
+WRONG_NUMBERS = [value for value in WRONG_EVERYWHERE if type(value) is not int] + [
+    0, -1, -8, 9, 10, 12, 100, 10 ** 999, -(10 ** 999), "1", "8", "one", [1], (1,), {1: 1}, [[8]], (), [],
+]
+
 # Values that are no meanings because of their form, and the same in front, in back and among the dropped words.
 WRONG_ENTRIES = [
     None, True, 0, "", "a", "ab", "always", [], (), {}, ["a", "always"], ("a",), ("always",), ("a", "always", "b"),
@@ -213,21 +245,32 @@ def rows_of(words):
 ROWS = rows_of(("x", "y", "s", "t"))
 
 
-def all_programs():
-    """A shortest program with the words x and y for everything that such programs do to rows."""
-    found = {tuple(ROWS): []}
+def short_rows(words):
+    """All rows of at most two of the words and a stranger."""
+    return [row for size in range(3) for row in itertools.permutations(tuple(words) + ("stranger",), size)]
+
+
+def all_shortest_programs(words, rows=ROWS):
+    """All shortest programs with some of the words for everything that such programs do to the rows."""
+    operations = [(verb, word) for verb in VERBS for word in words]
+    found = {tuple(rows): [[]]}
     level = list(found)
     while level:
-        following = []
-        for rows in level:
-            for verb in VERBS:
-                for word in ("x", "y"):
-                    after = tuple(one_step(row, (verb, word)) for row in rows)
-                    if after not in found:
-                        found[after] = found[rows] + [(verb, word)]
-                        following.append(after)
-        level = following
-    return list(found.values())
+        following = {}
+        for made_rows in level:
+            for operation in operations:
+                after = tuple(one_step(row, operation) for row in made_rows)
+                if after not in found:
+                    longer = [program + [operation] for program in found[made_rows]]
+                    following[after] = following.get(after, []) + longer
+        found.update(following)
+        level = list(following)
+    return found
+
+
+def all_programs():
+    """A shortest program with the words x and y for everything that such programs do to rows."""
+    return [programs[0] for programs in all_shortest_programs(("x", "y")).values()]
 
 
 def random_program(source, words, size):

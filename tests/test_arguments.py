@@ -5,20 +5,31 @@ import itertools
 import time
 import unittest
 
-from frontback import meanings, rows
-from frontback.errors import InvalidMeaning, InvalidProgram, InvalidRow, InvalidWord, TooLarge
+from frontback import meanings, probes, routes, rows, shortest
+from frontback.errors import (
+    InvalidFences, InvalidMeaning, InvalidNames, InvalidNumber, InvalidProgram, InvalidResults, InvalidRow, InvalidRows,
+    InvalidWord, NoProgram, TooLarge,
+)
 from tests import samples
 
 PROGRAM = [("lift", "x"), ("front", "y"), ("addback", "x"), ("drop", "z")]
 OTHER = [("sink", "x"), ("addfront", "w")]
 MEANING = ((("y", "always"), ("x", "present")), (("x", "absent"),), ("z",))
 OTHER_MEANING = ((("w", "absent"),), (("x", "present"),), ())
+NAMES = samples.NAMES
+FENCES = ("left", "right")
+RESULTS = [samples.made([("lift", "x"), ("addback", "y")], row) for row in probes.probes(NAMES)]
 
 WRONG = {
     "program": (InvalidProgram, samples.WRONG_PROGRAMS + [MEANING, ("a", "x")]),
     "row": (InvalidRow, samples.WRONG_ROWS + [MEANING, PROGRAM]),
     "word": (InvalidWord, samples.WRONG_WORDS + [MEANING, PROGRAM]),
     "meaning": (InvalidMeaning, samples.WRONG_MEANINGS + [PROGRAM, ("a", "x")]),
+    "names": (InvalidNames, samples.WRONG_NAMES + [MEANING, PROGRAM, RESULTS]),
+    "rows": (InvalidRows, samples.WRONG_LISTS_OF_ROWS + [MEANING, NAMES]),
+    "number": (InvalidNumber, samples.WRONG_NUMBERS + [MEANING, PROGRAM]),
+    "fences": (InvalidFences, samples.WRONG_FENCES + [MEANING, PROGRAM]),
+    "results": (InvalidResults, samples.WRONG_RESULTS + [MEANING, NAMES]),
 }
 
 # Each function with the names of its parameters, what they have to be, and values that are right.
@@ -34,15 +45,32 @@ CALLS = [
     (meanings.settles, [("program", "program", PROGRAM)]),
     (meanings.forgets, [("program", "program", PROGRAM), ("other", "program", OTHER)]),
     (meanings.commute, [("program", "program", PROGRAM), ("other", "program", OTHER)]),
+    (shortest.shortest, [("meaning", "meaning", MEANING)]),
+    (shortest.orders, [("meaning", "meaning", MEANING)]),
+    (shortest.all_shortest, [("meaning", "meaning", MEANING)]),
+    (shortest.idle, [("program", "program", PROGRAM)]),
+    (routes.distance, [("row", "row", ("a", "x")), ("other", "row", ("y", "x", "a"))]),
+    (routes.route, [("row", "row", ("a", "x")), ("other", "row", ("y", "x", "a"))]),
+    (routes.routes, [("row", "row", ("a", "x")), ("other", "row", ("y", "x", "a"))]),
+    (probes.tells, [("names", "names", NAMES), ("rows", "rows", [("s", "x"), (), ("x",)])]),
+    (probes.fewest, [("number", "number", 5)]),
+    (probes.probes, [("names", "names", NAMES), ("fences", "fences", FENCES)]),
+    (probes.learned, [("names", "names", NAMES), ("results", "results", RESULTS), ("fences", "fences", FENCES)]),
 ]
 
+ITERATORS = [rows.steps, shortest.all_shortest]
 ASKED = [rows.is_row, rows.is_program, meanings.is_meaning]
 
 
 def result(function, *values, **named):
     """What the call returns, an iterator as a list."""
     found = function(*values, **named)
-    return list(found) if function is rows.steps else found
+    return list(found) if function in ITERATORS else found
+
+
+def some(values):
+    """The first, the last and a few other ones of the values."""
+    return values[::len(values) // 5] + values[-1:]
 
 
 class WrongArguments(unittest.TestCase):
@@ -69,23 +97,39 @@ class WrongArguments(unittest.TestCase):
 
     def test_the_first_wrong_one_counts(self):
         for function, parameters in CALLS:
-            if len(parameters) == 2:
-                error, values = WRONG[parameters[0][1]]
-                later = WRONG[parameters[1][1]][1]
-                for wrong in values:
-                    for second in (later[0], later[-1], later[len(later) // 2]):
-                        self.assert_raises(error, function, wrong, second)
-                for wrong in (values[0], values[-1], values[len(values) // 2]):
-                    for second in later:
-                        self.assert_raises(error, function, wrong, second)
+            arguments = [value for _, _, value in parameters]
+            for one, later in itertools.combinations(range(len(parameters)), 2):
+                error, values = WRONG[parameters[one][1]]
+                others = WRONG[parameters[later][1]][1]
+                pairs = list(itertools.product(values, some(others))) + list(itertools.product(some(values), others))
+                for wrong, other in pairs:
+                    changed = list(arguments)
+                    changed[one], changed[later] = wrong, other
+                    self.assert_raises(error, function, *changed)
+
+    def test_all_wrong(self):
+        for function, parameters in CALLS:
+            error, values = WRONG[parameters[0][1]]
+            for arguments in itertools.product(*[some(WRONG[kind][1]) for name, kind, value in parameters]):
+                self.assert_raises(error, function, *arguments)
 
     def test_the_first_wrong_one_counts_by_name_in_any_order(self):
         for function, parameters in CALLS:
-            if len(parameters) == 2:
-                (name, kind, right), (later, other_kind, other_right) = parameters
+            right = {name: value for name, kind, value in parameters}
+            for (name, kind, _), (later, other_kind, _) in itertools.combinations(parameters, 2):
                 for wrong, other in itertools.product(WRONG[kind][1][::40], WRONG[other_kind][1][::40]):
-                    self.assert_raises(WRONG[kind][0], function, **{later: other, name: wrong})
-                    self.assert_raises(WRONG[other_kind][0], function, **{later: other, name: right})
+                    self.assert_raises(WRONG[kind][0], function, **{**right, later: other, name: wrong})
+                    self.assert_raises(WRONG[other_kind][0], function, **{**right, later: other})
+
+    def test_no_program_comes_last(self):
+        nothing = [()] * 4
+        self.assert_raises(NoProgram, probes.learned, NAMES, nothing)
+        self.assert_raises(NoProgram, probes.learned, NAMES, nothing, FENCES)
+        for wrong in samples.WRONG_FENCES:
+            self.assert_raises(InvalidFences, probes.learned, NAMES, nothing, wrong)
+        self.assert_raises(InvalidFences, probes.learned, ("x", "left"), nothing)
+        self.assert_raises(InvalidFences, probes.learned, ("right", "y"), nothing)
+        self.assert_raises(InvalidResults, probes.learned, ("x", "left"), [()] * 3)
 
     def test_wrong_meaning_before_too_large(self):
         twelve = ((), (), samples.TWELVE)
@@ -119,11 +163,12 @@ class ByName(unittest.TestCase):
             for order in itertools.permutations(parameters):
                 self.assertEqual(result(function, **{name: value for name, kind, value in order}), expected)
 
-    def test_the_second_one_only(self):
+    def test_only_the_later_ones(self):
         for function, parameters in CALLS:
-            if len(parameters) == 2:
-                (_, _, first), (name, _, second) = parameters
-                self.assertEqual(result(function, first, **{name: second}), result(function, first, second))
+            values = [value for name, kind, value in parameters]
+            for first in range(1, len(parameters)):
+                later = {name: value for name, kind, value in parameters[first:]}
+                self.assertEqual(result(function, *values[:first], **later), result(function, *values))
 
     def test_asked(self):
         for function, value in zip(ASKED, [("a", "x"), PROGRAM, MEANING]):
@@ -151,6 +196,27 @@ class NotModified(unittest.TestCase):
         expected = list(first)
         first.clear()
         self.assertEqual(list(rows.steps(PROGRAM, ("a",))), expected)
+
+    def test_a_list_of_programs_belongs_to_the_caller(self):
+        expected = list(shortest.all_shortest(MEANING))
+        found = []
+        for program in shortest.all_shortest(MEANING):
+            found.append(list(program))
+            program.clear()
+        self.assertEqual(found, expected)
+        self.assertEqual([program.clear() for program in shortest.all_shortest(((), (), ()))], [None])
+        self.assertEqual(list(shortest.all_shortest(((), (), ()))), [[]])
+
+    def test_returned_lists_are_new(self):
+        for function, parameters in CALLS:
+            arguments = [value for name, kind, value in parameters]
+            found = function(*arguments)
+            if isinstance(found, list):
+                expected = list(found)
+                found.append("more")
+                found.reverse()
+                self.assertEqual(function(*arguments), expected, function.__name__)
+                self.assertFalse(any(found is value for value in arguments))
 
     def test_one_list_at_both_positions(self):
         program = list(PROGRAM)
@@ -186,6 +252,43 @@ class Time(unittest.TestCase):
             self.assert_quick(function, one, words[:20])
         self.assert_quick(meanings.apply, first, words[:20])
         self.assert_quick(rows.fate, one, "a")
+        self.assert_quick(shortest.idle, one)
+        self.assert_quick(shortest.idle, [("front", "x"), ("back", "y")] * 30)
+
+    def test_shortest_programs_of_the_largest_meanings(self):
+        words = samples.TWELVE
+        programs = [
+            [(verb, word) for verb in verbs for word in words]
+            for verbs in [("lift", "addback"), ("sink", "addfront"), ("drop",), ("front",), ("lift", "addfront")]
+        ]
+        programs.append([("front", word) for word in words[:6]] + [("drop", word) for word in words[6:]])
+        programs.append([("lift", word) for word in words[:6]] + [("sink", word) for word in words[6:]]
+                        + [("addback", word) for word in words[:6]] + [("addfront", word) for word in words[6:]])
+        for program in programs:
+            triple = meanings.meaning(program)
+            self.assert_quick(shortest.shortest, triple)
+            self.assert_quick(shortest.orders, triple)
+            start = time.perf_counter()
+            self.assertGreater(len(list(itertools.islice(shortest.all_shortest(triple), 1000))), 0)
+            self.assertLess(time.perf_counter() - start, 1)
+
+    def test_largest_rows(self):
+        words = samples.LETTER_WORDS[:20]
+        others = tuple(word * 2 for word in words)
+        mixed = tuple(itertools.chain(*zip(words[:10], others[:10])))
+        for row, other in itertools.permutations([(), words, words[::-1], others, mixed, words[10:] + words[:10]], 2):
+            for function in (routes.distance, routes.route, routes.routes):
+                self.assert_quick(function, row, other)
+                self.assert_quick(function, row, row)
+
+    def test_most_names_and_rows(self):
+        names = samples.LETTER_WORDS[:8]
+        program = [(verb, word) for verb in ("lift", "addback", "addfront", "sink") for word in names]
+        results = [samples.made(program, row) for row in probes.probes(names)]
+        self.assert_quick(probes.learned, names, results)
+        self.assert_quick(probes.tells, names, [samples.LETTER_WORDS[:20]] * 200)
+        self.assert_quick(probes.tells, names, probes.probes(names) * 33)
+        self.assert_quick(probes.fewest, 8)
 
     def test_values_beyond_the_bounds(self):
         entries = tuple((word, "always") for word in samples.LETTER_WORDS[:12])

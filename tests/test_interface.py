@@ -19,7 +19,18 @@ FUNCTIONS = {
         ("agree", ["program", "other"]), ("difference", ["program", "other"]), ("joined", ["meaning", "other"]),
         ("settles", ["program"]), ("forgets", ["program", "other"]), ("commute", ["program", "other"]),
     ],
+    "shortest": [
+        ("shortest", ["meaning"]), ("orders", ["meaning"]), ("all_shortest", ["meaning"]), ("idle", ["program"]),
+    ],
+    "routes": [("distance", ["row", "other"]), ("route", ["row", "other"]), ("routes", ["row", "other"])],
+    "probes": [
+        ("tells", ["names", "rows"]), ("fewest", ["number"]), ("probes", ["names", "fences"]),
+        ("learned", ["names", "results", "fences"]),
+    ],
 }
+
+# All other parameters have no default.
+DEFAULTS = {"fences": ("left", "right")}
 
 
 class Interface(unittest.TestCase):
@@ -38,7 +49,8 @@ class Interface(unittest.TestCase):
                     self.assertEqual(list(found), parameters)
                     for parameter in found.values():
                         self.assertEqual(parameter.kind, inspect.Parameter.POSITIONAL_OR_KEYWORD)
-                        self.assertIs(parameter.default, inspect.Parameter.empty)
+                        default = DEFAULTS.get(parameter.name, inspect.Parameter.empty)
+                        self.assertEqual(parameter.default, default)
 
     def test_locked(self):
         errors = importlib.import_module("frontback.errors")

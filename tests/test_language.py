@@ -98,6 +98,20 @@ class Trees(unittest.TestCase):
             if isinstance(node, ast.Constant):
                 self.assertNotIsInstance(node.value, (float, complex), name)
 
+    def test_no_generator_expressions_and_no_stars(self):
+        for name, node in self.nodes:
+            self.assertNotIsInstance(node, (ast.GeneratorExp, ast.Starred), name)
+
+    def test_library_is_only_called(self):
+        for name, tree in self.trees.items():
+            taken = {alias.name for node in imports_of(tree) if node.module in LIBRARY for alias in node.names}
+            called = [node.func for node in ast.walk(tree) if isinstance(node, ast.Call) and not node.keywords]
+            for node in ast.walk(tree):
+                if isinstance(node, ast.Name) and node.id in taken:
+                    self.assertIn(node, called, name)
+                if isinstance(node, ast.FunctionDef):
+                    self.assertNotIn(node.name, taken, name)
+
     def test_locals_hide_no_builtins_classes_or_imports(self):
         for name, tree in self.trees.items():
             taken = {node.name for node in tree.body if isinstance(node, ast.ClassDef)} | set(vars(builtins))
