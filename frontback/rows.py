@@ -1,6 +1,6 @@
 """Rows of words, programs, and what programs make of rows."""
 
-from frontback.errors import InvalidNames, InvalidNumber, InvalidProgram, InvalidRow, InvalidWord
+from frontback.errors import InvalidNames, InvalidNumber, InvalidOperation, InvalidProgram, InvalidRow, InvalidWord
 
 LETTERS = "abcdefghijklmnopqrstuvwxyz"
 MOST_LETTERS = 8
@@ -74,6 +74,12 @@ def check_row(row):
     """Raise InvalidRow unless row is a row."""
     if not is_row(row):
         raise InvalidRow("a row is a tuple of at most 20 different words")
+
+
+def check_operation(operation):
+    """Raise InvalidOperation unless operation is an operation."""
+    if not is_operation(operation):
+        raise InvalidOperation("an operation is a tuple of a verb and a word")
 
 
 def check_program(program):

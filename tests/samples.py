@@ -91,6 +91,25 @@ WRONG_NUMBERS = [value for value in WRONG_EVERYWHERE if type(value) is not int] 
     0, -1, -8, 9, 10, 12, 100, 10 ** 999, -(10 ** 999), "1", "8", "one", [1], (1,), {1: 1}, [[8]], (), [],
 ]
 
+# Texts that are near to those of programs.
+NEAR_TEXTS = [
+    " ", "  ", "\n", ";", "; ", "; ; ", "front", "x", "front ", " x", " front x", "front x ", "front  x", "front\tx",
+    "front\nx", "front x\n", "\nfront x", "front x;", "front x; ", ";front x", "; front x", "front x;drop y",
+    "front x ;drop y", "front x ; drop y", "front x;  drop y", "front x;\ndrop y", "front x\n; drop y",
+    "front x;; drop y", "front x; ; drop y", "front x, drop y", "front x drop y", "front x;drop y; lift z",
+    "front x; drop y;", "front x; drop y; ", "Front x", "FRONT x", "front X", "front xY", "FRONT X", "front x; Drop y",
+    "frontx", "front-x", "front x y", "front x x", "x front", "up x", "add x", "middle x", "always x", "addlift x",
+    "front abcdefghi", "front 1", "front x1", "front _", "front x.", "front 'x'", '"front x"', "('front', 'x')",
+    "[('front', 'x')]", "[]", "front x; drop", "front; drop y", "front x; y", "front x; drop y z", "front x&drop y",
+    "front x:drop y", "front x: y", "front x; drop y\r", "front x\r\ndrop y", "front `", "front {", "drop", "front;x",
+    "None",
+]
+
+WRONG_TEXTS = [value for value in WRONG_EVERYWHERE if value not in ("", "front x; drop y")] + NEAR_TEXTS + [
+    "; ".join(["front x"] * 61), "; ".join("lift " + letter for letter in LETTERS[:13]), "; " * 1000,
+    (), [], [("front", "x")], ["front x"], ("front x",), {"front x": 1}, [["front", "x"]], ("front", "x"), [()],
+]
+
 # Values that are no meanings because of their form, and the same in front, in back and among the dropped words.
 WRONG_ENTRIES = [
     None, True, 0, "", "a", "ab", "always", [], (), {}, ["a", "always"], ("a",), ("always",), ("a", "always", "b"),
@@ -243,6 +262,12 @@ def rows_of(words):
 
 
 ROWS = rows_of(("x", "y", "s", "t"))
+
+
+def programs_of(words, most):
+    """All lists of at most so many operations with the words."""
+    operations = [(verb, word) for verb in VERBS for word in words]
+    return [list(found) for size in range(most + 1) for found in itertools.product(operations, repeat=size)]
 
 
 def short_rows(words):

@@ -5,11 +5,13 @@ import itertools
 import time
 import unittest
 
-from frontback import meanings, probes, routes, rows, shortest
+from frontback import backwards, meanings, probes, routes, rows, shortest, texts
+from frontback.editor import Editor, LockedEditor
 from frontback.errors import (
-    InvalidFences, InvalidMeaning, InvalidNames, InvalidNumber, InvalidProgram, InvalidResults, InvalidRow, InvalidRows,
-    InvalidWord, NoProgram, TooLarge,
+    InvalidFences, InvalidMeaning, InvalidNames, InvalidNumber, InvalidOperation, InvalidProgram, InvalidResults,
+    InvalidRow, InvalidRows, InvalidText, InvalidWord, NoProgram, NoSource, TooLarge,
 )
+from frontback.programs import Program, ShortProgram
 from tests import samples
 
 PROGRAM = [("lift", "x"), ("front", "y"), ("addback", "x"), ("drop", "z")]
@@ -19,6 +21,29 @@ OTHER_MEANING = ((("w", "absent"),), (("x", "present"),), ())
 NAMES = samples.NAMES
 FENCES = ("left", "right")
 RESULTS = [samples.made([("lift", "x"), ("addback", "y")], row) for row in probes.probes(NAMES)]
+OBJECTS = [Program(*PROGRAM), ShortProgram(*PROGRAM), Editor(("a", "x")), LockedEditor(("a", "x"), "x")]
+
+
+def done(operation):
+    """What a new editor does."""
+    return Editor(("a", "x")).do(operation=operation)
+
+
+def executed(program):
+    """What a new editor with a locked word executes."""
+    return LockedEditor(("a", "x"), "q").run(program=program)
+
+
+def edited(row):
+    """The row of a new editor."""
+    return Editor(row=row).row
+
+
+def locked(row, *words):
+    """The row and the locked words of a new editor."""
+    editor = LockedEditor(row, *words)
+    return [editor.row, editor.locked]
+
 
 WRONG = {
     "program": (InvalidProgram, samples.WRONG_PROGRAMS + [MEANING, ("a", "x")]),
@@ -30,7 +55,15 @@ WRONG = {
     "number": (InvalidNumber, samples.WRONG_NUMBERS + [MEANING, PROGRAM]),
     "fences": (InvalidFences, samples.WRONG_FENCES + [MEANING, PROGRAM]),
     "results": (InvalidResults, samples.WRONG_RESULTS + [MEANING, NAMES]),
+    "operation": (InvalidOperation, samples.WRONG_OPERATIONS + [MEANING, PROGRAM]),
+    "text": (InvalidText, samples.WRONG_TEXTS + [MEANING, PROGRAM]),
+    # The second word is wrong if it is the first one, too.
+    "other word": (InvalidWord, samples.WRONG_WORDS + [MEANING, PROGRAM, "x"]),
 }
+
+# Objects of the package are none of these things.
+for _, values in WRONG.values():
+    values.extend(OBJECTS)
 
 # Each function with the names of its parameters, what they have to be, and values that are right.
 CALLS = [
@@ -56,6 +89,26 @@ CALLS = [
     (probes.fewest, [("number", "number", 5)]),
     (probes.probes, [("names", "names", NAMES), ("fences", "fences", FENCES)]),
     (probes.learned, [("names", "names", NAMES), ("results", "results", RESULTS), ("fences", "fences", FENCES)]),
+    (backwards.sources, [("program", "program", PROGRAM), ("row", "row", ("y", "x")), ("names", "names", NAMES)]),
+    (backwards.source, [("program", "program", PROGRAM), ("row", "row", ("y", "x")), ("names", "names", NAMES)]),
+    (backwards.sure, [("program", "program", PROGRAM)]),
+    (backwards.always_before, [("program", "program", PROGRAM), ("word", "word", "x"), ("other", "other word", "a")]),
+    (texts.write, [("program", "program", PROGRAM)]),
+    (texts.read, [("text", "text", "front x; drop y")]),
+    (Program.of, [("meaning", "meaning", MEANING)]),
+    (ShortProgram.of, [("meaning", "meaning", MEANING)]),
+    (OBJECTS[0].__call__, [("row", "row", ("a", "x"))]),
+    (OBJECTS[1].__call__, [("row", "row", ("a", "x"))]),
+    (done, [("operation", "operation", ("front", "y"))]),
+    (executed, [("program", "program", PROGRAM)]),
+    (edited, [("row", "row", ("a", "x"))]),
+]
+
+# Starred arguments are passed by position.
+STARRED_CALLS = [
+    (Program, [("operation", ("front", "x")), ("operation", ("drop", "y")), ("operation", ("front", "x"))]),
+    (ShortProgram, [("operation", ("front", "x")), ("operation", ("drop", "y")), ("operation", ("front", "x"))]),
+    (locked, [("row", ("a", "x")), ("word", "x"), ("word", "b"), ("word", "x")]),
 ]
 
 ITERATORS = [rows.steps, shortest.all_shortest]
@@ -75,12 +128,12 @@ def some(values):
 
 class WrongArguments(unittest.TestCase):
     def assert_raises(self, error, function, *values, **named):
-        before = copy.deepcopy([values, named])
-        with self.subTest([function.__name__, repr([values, named])[:200]]):
+        before = repr([values, named])
+        with self.subTest([function.__name__, before[:200]]):
             with self.assertRaises(error) as caught:
                 result(function, *values, **named)
             self.assertIs(type(caught.exception), error)
-            self.assertEqual(repr([values, named]), repr(before))
+            self.assertEqual(repr([values, named]), before)
 
     def test_right_arguments_raise_nothing(self):
         for function, parameters in CALLS:
@@ -121,6 +174,25 @@ class WrongArguments(unittest.TestCase):
                     self.assert_raises(WRONG[kind][0], function, **{**right, later: other, name: wrong})
                     self.assert_raises(WRONG[other_kind][0], function, **{**right, later: other})
 
+    def test_starred_arguments(self):
+        for function, parameters in STARRED_CALLS:
+            right = [value for _, value in parameters]
+            function(*right)
+            for one, (kind, _) in enumerate(parameters):
+                error, values = WRONG[kind]
+                for wrong in values:
+                    self.assert_raises(error, function, *right[:one], wrong, *right[one + 1:])
+                for later in range(one + 1, len(parameters)):
+                    for wrong, other in itertools.product(some(values), WRONG[parameters[later][0]][1]):
+                        changed = list(right)
+                        changed[one], changed[later] = wrong, other
+                        self.assert_raises(error, function, *changed)
+
+    def test_no_source_comes_last(self):
+        self.assert_raises(NoSource, backwards.source, PROGRAM, ("x", "y"), NAMES)
+        for wrong in samples.WRONG_NAMES:
+            self.assert_raises(InvalidNames, backwards.source, PROGRAM, ("x", "y"), wrong)
+
     def test_no_program_comes_last(self):
         nothing = [()] * 4
         self.assert_raises(NoProgram, probes.learned, NAMES, nothing)
@@ -140,7 +212,7 @@ class WrongArguments(unittest.TestCase):
 
     def test_any_value_may_be_asked_about(self):
         values = (samples.WRONG_WORDS + samples.WRONG_ROWS + samples.WRONG_PROGRAMS + samples.WRONG_OPERATIONS
-                  + samples.WRONG_MEANINGS + samples.WRONG_ENTRIES + samples.GOOD_MEANINGS
+                  + samples.WRONG_MEANINGS + samples.WRONG_ENTRIES + samples.GOOD_MEANINGS + samples.WRONG_TEXTS
                   + [PROGRAM, OTHER, (), [], ("a", "x")])
         for value in values:
             before = copy.deepcopy(value)
@@ -271,6 +343,20 @@ class Time(unittest.TestCase):
             start = time.perf_counter()
             self.assertGreater(len(list(itertools.islice(shortest.all_shortest(triple), 1000))), 0)
             self.assertLess(time.perf_counter() - start, 1)
+
+    def test_sources_among_eight_names(self):
+        words = samples.TWELVE
+        programs = [[(verb, word) for verb in ("lift", "addback", "addfront", "sink", "addback") for word in words],
+                    [("drop", word) for word in words] * 5, [], [("lift", word) for word in words]]
+        for program in programs:
+            for row in [(), words, words[::-1], samples.LETTER_WORDS[:20], words[:8]]:
+                for names in (words[:8], words[4:], samples.LETTER_WORDS[18:]):
+                    self.assert_quick(backwards.sources, program, row, names)
+                    if backwards.sources(program, row, names):
+                        self.assert_quick(backwards.source, program, row, names)
+            self.assert_quick(backwards.sure, program)
+            self.assert_quick(backwards.always_before, program, "a", "b")
+            self.assert_quick(texts.write, program)
 
     def test_largest_rows(self):
         words = samples.LETTER_WORDS[:20]

@@ -1,13 +1,17 @@
-"""Points 4, 5 and 10 to 13 together: exchanged words, exchanged ends, words left away, and programs that agree."""
+"""Points 4, 5 and 10 to 18 together: exchanged words, exchanged ends, words left away, and programs that agree."""
 
 import random
 import unittest
 
+from frontback.backwards import always_before, sources, sure
+from frontback.editor import Editor
 from frontback.meanings import agree, meaning
 from frontback.probes import learned, probes
+from frontback.programs import Program, ShortProgram
 from frontback.routes import distance, routes
 from frontback.rows import run
 from frontback.shortest import all_shortest, idle, orders, shortest
+from frontback.texts import read, write
 from tests import samples
 
 WORDS = ("a", "b", "c", "d", "e")
@@ -79,6 +83,37 @@ class Exchanges(unittest.TestCase):
             self.assertEqual([distance(row[::-1], other[::-1]), routes(row[::-1], other[::-1])], expected)
             one, two = [tuple(NAMES[word] for word in words) for words in (row, other)]
             self.assertEqual([distance(one, two), routes(one, two)], expected)
+
+    def test_backwards(self):
+        names = tuple(NAMES[word] for word in WORDS)
+        for program, row in zip(self.programs, self.rows):
+            made = run(program, row)
+            number = sources(program, made, WORDS)
+            self.assertGreaterEqual(number, 1)
+            self.assertEqual(sources(turned(program), made[::-1], WORDS), number)
+            self.assertEqual(sources(renamed(program), tuple(NAMES[word] for word in made), names), number)
+            self.assertEqual(sources(shortest(meaning(program)), made, WORDS[::-1]), number)
+            self.assertEqual(sure(turned(program)), sure(program))
+            self.assertEqual(sure(shortest(meaning(program))), sure(program))
+            for word, other in [("a", "b"), ("b", "a"), ("c", "e")]:
+                before = always_before(program, word, other)
+                self.assertIs(always_before(turned(program), other, word), before)
+                self.assertIs(always_before(renamed(program), NAMES[word], NAMES[other]), before)
+                self.assertIs(always_before(shortest(meaning(program)), word, other), before)
+
+    def test_objects_texts_and_editors(self):
+        for program, row in zip(self.programs, self.rows):
+            made = run(program, row)
+            editor = Editor(row)
+            self.assertEqual([Program(*program)(row), ShortProgram(*program)(row), editor.run(program)], [made] * 3)
+            self.assertEqual(run(read(write(program)), row), made)
+            self.assertEqual(Program(*read(write(editor.done))).operations, program)
+            self.assertLessEqual(distance(row, made), len(ShortProgram(*program)))
+            self.assertEqual(len(editor.short()), distance(row, made))
+            self.assertEqual(run(editor.short(), row), made)
+            for other in self.programs[:10]:
+                self.assertIs(Program(*program) == ShortProgram(*other), agree(program, other))
+                self.assertIs(Program(*program) == Program(*other), meaning(program) == meaning(other))
 
     def test_programs_that_agree(self):
         for program in self.programs:

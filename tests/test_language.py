@@ -22,6 +22,14 @@ BARRED_NAMES = {
     "open", "input", "compile", "eval", "exec", "globals", "locals", "vars", "dir", "chr", "float", "filter", "print",
 }
 
+# The special methods that the package uses, with their parameters; a None stands for any others.
+SPECIAL = {
+    "__init__": None, "__call__": ["self", "row"], "__add__": ["self", "other"], "__mul__": ["self", "other"],
+    "__eq__": ["self", "other"], "__len__": ["self"], "__contains__": ["self", "x"],
+}
+
+BUILTIN_METHODS = {name for value in ("", b"", [], {}, set(), 0) for name in dir(value) if not name.startswith("_")}
+
 BARRED_KINDS = (ast.AsyncFunctionDef, ast.AsyncFor, ast.AsyncWith, ast.Await, ast.Div, ast.Import)
 
 
@@ -98,9 +106,15 @@ class Trees(unittest.TestCase):
             if isinstance(node, ast.Constant):
                 self.assertNotIsInstance(node.value, (float, complex), name)
 
-    def test_no_generator_expressions_and_no_stars(self):
+    def test_no_generator_expressions_and_no_attempts(self):
         for name, node in self.nodes:
-            self.assertNotIsInstance(node, (ast.GeneratorExp, ast.Starred), name)
+            self.assertNotIsInstance(node, (ast.GeneratorExp, ast.Try, ast.Lambda, ast.AugAssign, ast.Global), name)
+
+    def test_stars_stand_before_plain_names_in_calls(self):
+        stars = [node for name, node in self.nodes if isinstance(node, ast.Starred)]
+        calls = [node for name, node in self.nodes if isinstance(node, ast.Call)]
+        self.assertTrue(all(isinstance(star.value, ast.Name) for star in stars))
+        self.assertTrue(all(any(star in call.args for call in calls) for star in stars))
 
     def test_library_is_only_called(self):
         for name, tree in self.trees.items():
@@ -131,6 +145,72 @@ class Trees(unittest.TestCase):
             ready = [name for name in imports if not imports[name] & set(imports)]
             self.assertNotEqual(ready, [], imports)
             imports = {name: imports[name] for name in imports if name not in ready}
+
+
+class Classes(unittest.TestCase):
+    def setUp(self):
+        trees = [ast.parse(text_of(name)) for name in files()]
+        self.nodes = [node for tree in trees for node in ast.walk(tree)]
+        self.classes = [node for node in self.nodes if isinstance(node, ast.ClassDef)]
+        self.methods = [(owner, node) for owner in self.classes for node in owner.body
+                        if isinstance(node, ast.FunctionDef)]
+
+    def marks(self, method):
+        return [mark.id for mark in method.decorator_list]
+
+    def test_special_methods(self):
+        for owner, method in self.methods:
+            if method.name.startswith("__"):
+                self.assertIn(method.name, SPECIAL)
+                parameters = [argument.arg for argument in method.args.args]
+                self.assertEqual(parameters, SPECIAL[method.name] or parameters)
+                self.assertEqual(self.marks(method), [])
+            else:
+                self.assertNotIn(method.name, BUILTIN_METHODS)
+
+    def test_marks(self):
+        for owner in self.classes:
+            self.assertEqual(owner.decorator_list, [])
+        for node in self.nodes:
+            if isinstance(node, ast.FunctionDef):
+                self.assertLessEqual(set(self.marks(node)), {"property", "classmethod"})
+                self.assertLessEqual(len(self.marks(node)), 1)
+
+    def test_what_equality_and_lengths_return(self):
+        for owner, method in self.methods:
+            if method.name == "__eq__":
+                line = ast.unparse(method.body[0])
+                self.assertTrue(line.startswith(f"return isinstance(other, {owner.name}) and "), line)
+            if method.name == "__len__":
+                self.assertTrue(ast.unparse(method.body[-1]).startswith("return len("))
+            if method.name in ("__eq__", "__len__", "__contains__") or self.marks(method) == ["property"]:
+                texts = [node for node in method.body if isinstance(node, ast.Expr)]
+                self.assertEqual(len(method.body), len(texts) + 1)
+
+    def test_names_of_properties_and_attributes(self):
+        properties = {method.name for owner, method in self.methods if self.marks(method) == ["property"]}
+        methods = {method.name for owner, method in self.methods} - properties
+        stored = {node.attr for node in self.nodes if isinstance(node, ast.Attribute)
+                  and isinstance(node.ctx, ast.Store)}
+        read = {node.attr for node in self.nodes if isinstance(node, ast.Attribute)}
+        self.assertEqual(properties & methods, set())
+        self.assertEqual(stored & (properties | methods | BUILTIN_METHODS), set())
+        self.assertLessEqual(read - stored - properties - methods, BUILTIN_METHODS | {"__init__"})
+
+    def test_errors_have_no_bodies_but_one(self):
+        for owner in self.classes:
+            if owner.name.startswith(("Invalid", "No", "Too")):
+                self.assertEqual([type(node) for node in owner.body], [ast.Expr])
+
+    def test_generators_are_iterated_at_once(self):
+        generators = {node.name for node in self.nodes if isinstance(node, ast.FunctionDef)
+                      and any(isinstance(part, (ast.Yield, ast.YieldFrom)) for part in ast.walk(node))}
+        calls = [node for node in self.nodes if isinstance(node, ast.Call) and isinstance(node.func, ast.Name)]
+        inner = [node for node in calls if node.func.id in generators]
+        listed = [call.args[0] for call in calls if call.func.id == "list" and call.args]
+        self.assertEqual(generators, {"steps", "all_shortest"})
+        self.assertTrue(all(node in listed for node in inner))
+        self.assertEqual({method.name for owner, method in self.methods} & generators, set())
 
 
 if __name__ == "__main__":
