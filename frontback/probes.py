@@ -5,7 +5,7 @@ from math import comb
 
 from frontback.errors import InvalidFences, InvalidResults, InvalidRows, NoProgram
 from frontback.meanings import is_meaning, made_of, merged, stands_left
-from frontback.rows import MOST_NAMES, check_names, check_number, is_row, is_word
+from frontback.rows import MOST_NAMES, check_names, check_number, is_row
 from frontback.shortest import shortest_of
 
 MOST_RESULT_WORDS = 10
